@@ -1,0 +1,32 @@
+"""The examples of the document, as far as the program goes."""
+
+import unittest
+
+from barbreaks.grids import Grid
+from barbreaks.houses import House
+from barbreaks.items import Break, Piece
+from barbreaks.orders import Order
+from tests.helpers import Case, doc_order
+
+
+class TestExamples(Case):
+    def test_grids(self):
+        self.assertEqual((Grid(8, 3).first_bar(12), str(Grid(10, 4) & Grid(6, 2))), (19, "30+14"))
+
+    def test_limit(self):
+        self.assertEqual(doc_order()["eve"].limit, 30)
+
+    def test_the_other_orders_can_be_made(self):
+        small = House(1, 2, walk=(0, 3), pack=(2, 4))
+        slot = Break("slot", grid=Grid(10), minute=10, places=1, unit=10)
+        chat = Piece("chat", grid=Grid(1), least=5, most=8)
+        song = Piece("song", grid=Grid(1), least=6, most=6)
+        self.assertEqual(Order(small, 0, [slot, chat, song]).piece_names(), ["chat", "song"])
+
+    def test_words_of_the_order(self):
+        self.assertEqual([" ".join(item.words()) for item in doc_order()],
+                         ["noon 10 5 0 2 5 1", "talk 1 - 0 4 6", "eve 10 20 0 2 5 2"])
+
+
+if __name__ == "__main__":
+    unittest.main()

@@ -1,0 +1,122 @@
+"""The interface and the form of the files of the package."""
+
+import ast
+import importlib
+import pathlib
+import unittest
+
+PACKAGE = pathlib.Path(__file__).resolve().parent.parent / "barbreaks"
+
+# The modules in the order of the interface, with their functions and classes.
+# The names of a class stand with what it must define in its own body.
+INTERFACE = {
+    "errors": {"BarbreaksError": [], "Refused": []},
+    "words": {"is_name": None, "write_number": None, "read_number": None},
+    "spans": {
+        "Span": ["__init__", "size", "within", "__add__", "__radd__", "__sub__", "__rsub__",
+                 "__neg__", "__and__", "__or__", "__contains__", "__eq__"],
+        "hull": None,
+    },
+    "grids": {
+        "Grid": ["__init__", "first_bar", "last_bar", "bars_between", "within", "read", "__str__",
+                 "__add__", "__radd__", "__sub__", "__and__", "__contains__", "__eq__"],
+        "common_grid": None,
+    },
+    "items": {
+        "Named": ["__init__"],
+        "Timed": ["__init__", "begin_at", "MOST_DELAY"],
+        "Item": ["__init__", "words"],
+        "Piece": ["__init__", "words", "MOST_SPREAD"],
+        "Break": ["__init__", "words", "length", "limit", "MOST_PLACES", "MOST_PATIENCE"],
+    },
+    "houses": {"House": ["__init__", "with_apart"]},
+    "orders": {
+        "Order": ["__init__", "points", "number_of", "piece_names", "break_names", "begin_of",
+                  "end_of", "call_of", "upto", "moved", "retimed", "swapped", "with_house",
+                  "__len__", "__iter__", "__contains__", "__getitem__"],
+    },
+    "events": {"all_events": None, "point_of": None},
+}
+
+PROPERTIES = [("spans", "Span", "size"), ("items", "Break", "length"), ("items", "Break", "limit"),
+              ("orders", "Order", "points")]
+
+
+def sources():
+    """The names and texts of all files of the package."""
+    return {path.stem: path.read_text(encoding="utf-8") for path in sorted(PACKAGE.glob("*.py"))}
+
+
+def imported(text):
+    """The modules of the package that a file imports from."""
+    return [node.module.partition(".")[2] for node in ast.walk(ast.parse(text))
+            if isinstance(node, ast.ImportFrom) and node.module.startswith("barbreaks.")]
+
+
+class TestInterface(unittest.TestCase):
+    def test_all_is_defined_where_it_is_listed(self):
+        for module, names in INTERFACE.items():
+            found = importlib.import_module(f"barbreaks.{module}")
+            for name in names:
+                self.assertEqual(getattr(found, name).__module__, f"barbreaks.{module}", name)
+
+    def test_all_methods_stand_in_their_class(self):
+        for module, names in INTERFACE.items():
+            found = importlib.import_module(f"barbreaks.{module}")
+            for name, members in names.items():
+                for member in members or []:
+                    self.assertIn(member, vars(getattr(found, name)), f"{name}.{member}")
+
+    def test_properties(self):
+        for module, name, member in PROPERTIES:
+            found = getattr(importlib.import_module(f"barbreaks.{module}"), name)
+            self.assertIsInstance(vars(found)[member], property)
+
+    def test_read_is_a_class_method(self):
+        grid = importlib.import_module("barbreaks.grids").Grid
+        self.assertIsInstance(vars(grid)["read"], classmethod)
+
+    def test_modules_use_only_earlier_ones(self):
+        modules = list(INTERFACE)
+        texts = sources()
+        for at, module in enumerate(modules):
+            for other in imported(texts[module]):
+                if other in modules:
+                    self.assertLess(modules.index(other), at, f"{module} uses {other}")
+
+
+class TestForm(unittest.TestCase):
+    def test_folder_has_only_python_files(self):
+        for path in PACKAGE.rglob("*"):
+            if path.is_file() and path.suffix != ".pyc":
+                self.assertEqual(path.suffix, ".py", path)
+
+    def test_sizes_of_files_and_lines(self):
+        for name, text in sources().items():
+            lines = text.split("\n")
+            self.assertLessEqual(len(lines), 400, name)
+            for line in lines:
+                self.assertLessEqual(len(line), 120, name)
+
+    def test_signs(self):
+        for name, text in sources().items():
+            self.assertTrue(all(sign == "\n" or " " <= sign <= "~" for sign in text), name)
+
+    def test_sizes_of_functions(self):
+        for name, text in sources().items():
+            for node in ast.walk(ast.parse(text)):
+                if isinstance(node, ast.FunctionDef):
+                    self.assertLessEqual(node.end_lineno - node.lineno + 1, 40, f"{name}.{node.name}")
+
+    def test_imports_are_of_the_package_alone(self):
+        allowed = ("__future__", "heapq", "math", "itertools", "collections")
+        for name, text in sources().items():
+            for node in ast.walk(ast.parse(text)):
+                self.assertNotIsInstance(node, ast.Import, name)
+                if isinstance(node, ast.ImportFrom):
+                    own = node.module.startswith("barbreaks.") and node.level == 0
+                    self.assertTrue(own or node.module in allowed, f"{name}: {node.module}")
+
+
+if __name__ == "__main__":
+    unittest.main()
