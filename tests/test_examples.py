@@ -2,10 +2,15 @@
 
 import unittest
 
+from barbreaks.distances import nearest
+from barbreaks.errors import BadRow
 from barbreaks.grids import Grid
 from barbreaks.houses import House
 from barbreaks.items import Break, Piece
 from barbreaks.orders import Order
+from barbreaks.outlooks import Outlook
+from barbreaks.reach import Reach
+from barbreaks.runs import run
 from tests.helpers import Case, doc_order
 
 
@@ -26,6 +31,18 @@ class TestExamples(Case):
     def test_words_of_the_order(self):
         self.assertEqual([" ".join(item.words()) for item in doc_order()],
                          ["noon 10 5 0 2 5 1", "talk 1 - 0 4 6", "eve 10 20 0 2 5 2"])
+
+    def test_runs(self):
+        order = doc_order()
+        self.assertEqual(run(order, [(0,), (0, 4, 1, 0), (0,)]).moments,
+                         [0, 10, 20, 20, 24, 30, 40])
+        self.refuses(BadRow("talk"), run, order, [(0,), (0, 7, 1, 0), (0,)])
+
+    def test_reach(self):
+        reach = Reach(Outlook(doc_order()))
+        self.assertEqual(reach.tables[4], [(24, 0), (25, 1), (26, 2)])
+        self.assertEqual(nearest(reach, ("end", "talk"), ("begin", "eve")).ticks, 4)
+        self.assertEqual(nearest(reach, ("enter", "talk"), ("begin", "talk")).ticks, 8)
 
 
 if __name__ == "__main__":

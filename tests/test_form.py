@@ -36,6 +36,17 @@ INTERFACE = {
                   "__len__", "__iter__", "__contains__", "__getitem__"],
     },
     "events": {"all_events": None, "point_of": None},
+    "runs": {"Run": ["moment_of", "inside", "bound"], "run": None},
+    "diaries": {"diary": None},
+    "outlooks": {
+        "Outlook": ["__init__", "span_of", "narrowed", "split_at", "carried", "row_count",
+                    "first_row", "last_row", "rows", "lateness_of", "within", "__contains__"],
+    },
+    "courses": {"Course": ["__init__", "__call__", "latest", "__rshift__"]},
+    "reach": {"Reach": ["__init__", "moments_at", "span_at", "lateness_at", "row_to"]},
+    "tables": {"check_tables": None},
+    "distances": {"Distance": [], "nearest": None, "farthest": None},
+    "leasts": {"least_table": None},
 }
 
 PROPERTIES = [("spans", "Span", "size"), ("items", "Break", "length"), ("items", "Break", "limit"),
