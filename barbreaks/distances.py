@@ -37,7 +37,7 @@ def nearest_later(reach, point, goal):
 
 
 def nearest_earlier(reach, point, goal):
-    """The least distance from a point to an earlier one; it is negative."""
+    """The least distance from a point to an earlier one."""
     outlook = reach.outlook
     course = Course(outlook, goal, point)
     ticks, moment = min([(then - course.latest(then), then) for then in reach.moments_at(goal)])
