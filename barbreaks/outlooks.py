@@ -100,10 +100,10 @@ class Outlook:
 
     def _find(self, name, word):
         number = self.order.number_of(name)
-        words = LAGS[:len(self._bounds[number])]
-        if word not in words:
-            raise BadWord(word)
-        return number, words.index(word)
+        for at, lag in enumerate(LAGS[:len(self._bounds[number])]):
+            if lag == word:
+                return number, at
+        raise BadWord(word)
 
     def _with_span(self, name, word, span):
         number, at = self._find(name, word)

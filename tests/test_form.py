@@ -1,6 +1,7 @@
 """The interface and the form of the files of the package."""
 
 import ast
+import builtins
 import importlib
 import pathlib
 import unittest
@@ -127,6 +128,92 @@ class TestForm(unittest.TestCase):
                 if isinstance(node, ast.ImportFrom):
                     own = node.module.startswith("barbreaks.") and node.level == 0
                     self.assertTrue(own or node.module in allowed, f"{name}: {node.module}")
+
+
+OPERATORS = ("__add__", "__radd__", "__sub__", "__rsub__", "__neg__", "__and__", "__or__",
+             "__rshift__", "__contains__", "__getitem__", "__bool__", "__eq__", "__len__",
+             "__str__", "__repr__", "__iter__")
+
+
+def attributes_of(trees):
+    """The names of all attributes that some file assigns."""
+    return {node.attr for tree in trees for node in ast.walk(tree)
+            if isinstance(node, ast.Attribute) and isinstance(node.ctx, ast.Store)}
+
+
+def defined_in(trees):
+    """All functions and methods by their names; a class stands for its own `__init__`."""
+    found = {}
+    for tree in trees:
+        for node in ast.walk(tree):
+            if isinstance(node, ast.FunctionDef):
+                found.setdefault(node.name, []).append(node)
+            if isinstance(node, ast.ClassDef):
+                made = [part for part in node.body
+                        if isinstance(part, ast.FunctionDef) and part.name == "__init__"]
+                found.setdefault(node.name, []).extend(made)
+    return found
+
+
+def is_root(node):
+    """True for an operator and for a property."""
+    marks = [mark.id for mark in node.decorator_list if isinstance(mark, ast.Name)]
+    return node.name in OPERATORS or "property" in marks
+
+
+def called_in(node):
+    """The names of what a function calls, with True for what stands behind a dot."""
+    found = []
+    for part in ast.walk(node):
+        if isinstance(part, ast.Call) and isinstance(part.func, ast.Attribute):
+            if part.func.attr == "__init__":
+                found.append((part.func.value.id, False))
+            else:
+                found.append((part.func.attr, True))
+        elif isinstance(part, ast.Call):
+            found.append((part.func.id, False))
+    return found
+
+
+def run_by_operators(defined):
+    """All that operators and properties call, also through what they call, with what calls it.
+
+    A name stands for everything in the package that has it.
+    """
+    waiting = [node for nodes in defined.values() for node in nodes if is_root(node)]
+    seen = []
+    found = []
+    while waiting:
+        node = waiting.pop()
+        if node in seen:
+            continue
+        seen.append(node)
+        for name, dotted in called_in(node):
+            found.append((node.name, name, dotted))
+            waiting.extend(defined.get(name, []))
+    return found
+
+
+class TestOperators(unittest.TestCase):
+    def setUp(self):
+        self.trees = [ast.parse(text) for text in sources().values()]
+        self.found = run_by_operators(defined_in(self.trees))
+
+    def test_operators_call_no_name_of_an_attribute(self):
+        held = attributes_of(self.trees)
+        for caller, name, dotted in self.found:
+            self.assertFalse(dotted and name in held, f"{caller} calls .{name}")
+
+    def test_operators_call_nothing_that_they_are_passed(self):
+        known = set(defined_in(self.trees)) | set(dir(builtins))
+        known.update(node.name for tree in self.trees for node in ast.walk(tree)
+                     if isinstance(node, ast.ClassDef))
+        for caller, name, dotted in self.found:
+            self.assertTrue(dotted or name in known, f"{caller} calls {name}")
+
+    def test_what_operators_run_is_found(self):
+        self.assertIn(("_find", "number_of", True), self.found)
+        self.assertIn("index", attributes_of(self.trees))
 
 
 if __name__ == "__main__":
