@@ -48,6 +48,16 @@ INTERFACE = {
     "tables": {"check_tables": None},
     "distances": {"Distance": [], "nearest": None, "farthest": None},
     "leasts": {"least_table": None},
+    "corners": {"corner": None, "hollow": None},
+    "demands": {"Demand": ["__init__", "__call__", "kept"], "margin": None, "fate": None},
+    "breaches": {"Breach": [], "breaker": None},
+    "trying": {"plain_nearest": None, "plain_breaker": None},
+    "bands": {
+        "Band": ["__init__", "spaced", "near", "part", "mirrored", "__len__", "__add__"],
+    },
+    "chains": {"chains": None, "most": None, "fewest": None},
+    "covers": {"cover": None, "cover_bound": None},
+    "layings": {"fits": None, "jam": None, "lay": None},
 }
 
 PROPERTIES = [("spans", "Span", "size"), ("items", "Break", "length"), ("items", "Break", "limit"),
