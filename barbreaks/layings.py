@@ -38,14 +38,14 @@ def jam(band, counts):
 
 
 def turns(band, longer, shorter):
-    """The things of two chains, in rows of which each thing is near to the one before it."""
-    rows = []
+    """The things of two chains, in lists of which each thing is near to the one before it."""
+    found = []
     for thing in sorted(longer + shorter):
-        if rows != [] and band.near(rows[-1][-1], thing):
-            rows[-1].append(thing)
+        if found != [] and band.near(found[-1][-1], thing):
+            found[-1].append(thing)
         else:
-            rows.append([thing])
-    return rows
+            found.append([thing])
+    return found
 
 
 def exchanged(band, longer, shorter):

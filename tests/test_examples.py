@@ -7,10 +7,14 @@ from barbreaks.errors import BadRow
 from barbreaks.grids import Grid
 from barbreaks.houses import House
 from barbreaks.items import Break, Piece
+from barbreaks.jams import jam_of
 from barbreaks.orders import Order
 from barbreaks.outlooks import Outlook
+from barbreaks.places import spot_band
 from barbreaks.reach import Reach
 from barbreaks.runs import run
+from barbreaks.spots import lay_spots
+from barbreaks.widths import widest
 from tests.helpers import Case, doc_order
 
 
@@ -43,6 +47,14 @@ class TestExamples(Case):
         self.assertEqual(reach.tables[4], [(24, 0), (25, 1), (26, 2)])
         self.assertEqual(nearest(reach, ("end", "talk"), ("begin", "eve")).ticks, 4)
         self.assertEqual(nearest(reach, ("enter", "talk"), ("begin", "talk")).ticks, 8)
+
+    def test_spots(self):
+        order = doc_order()
+        self.assertEqual(spot_band(order).ends, (1, 1, 3, 3))
+        self.assertEqual(lay_spots(order, {"cars": 2}).counts(), {"cars": 2})
+        jam = jam_of(order, {"cars": 3})
+        self.assertEqual((jam.kinds, jam.asked, jam.most), (["cars"], 3, 2))
+        self.assertEqual((widest(order, {"cars": 2}).apart, widest(order, {"cars": 3}).apart), (25, 5))
 
 
 if __name__ == "__main__":

@@ -58,6 +58,16 @@ INTERFACE = {
     "chains": {"chains": None, "most": None, "fewest": None},
     "covers": {"cover": None, "cover_bound": None},
     "layings": {"fits": None, "jam": None, "lay": None},
+    "listing": {"every_laying": None},
+    "places": {"places": None, "spot_band": None},
+    "sheets": {
+        "Sheet": ["__init__", "entries_of", "counts", "put", "__getitem__", "__iter__"],
+    },
+    "jams": {"Group": ["__init__"], "Jam": ["__init__"], "jam_of": None, "check_jam": None},
+    "spots": {"lay_spots": None},
+    "mosts": {"Most": [], "most_spots": None},
+    "widths": {"Width": [], "widest": None},
+    "stays": {"studio_band": None, "crew_band": None},
 }
 
 PROPERTIES = [("spans", "Span", "size"), ("items", "Break", "length"), ("items", "Break", "limit"),
