@@ -74,7 +74,7 @@ class Band:
         # The last near thing of the reverse order is the first near one of this order.
         firsts = [min([i for i, end in enumerate(self.ends) if end >= k])
                   for k in range(last + 1)]
-        return Band([last - first for first in reversed(firsts)])
+        return Band([last - first for first in firsts[::-1]])
 
     def __add__(self, other):
         count = len(self.ends)

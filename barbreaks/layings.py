@@ -50,12 +50,12 @@ def turns(band, longer, shorter):
 
 def exchanged(band, longer, shorter):
     """Two chains with the same things, of which the shorter one has one thing more."""
-    for things in turns(band, longer, shorter):
-        if len(things) % 2 == 1 and things[0] in longer:
-            less = [thing for thing in longer if thing not in things]
-            more = [thing for thing in shorter if thing not in things]
-            return sorted(less + things[1::2]), sorted(more + things[::2])
-    return longer, shorter
+    odd = [things for things in turns(band, longer, shorter)
+           if len(things) % 2 == 1 and things[0] in longer]
+    moved = odd[0]
+    less = [thing for thing in longer if thing not in moved]
+    more = [thing for thing in shorter if thing not in moved]
+    return sorted(less + moved[1::2]), sorted(more + moved[::2])
 
 
 def filled(band, lists, counts):

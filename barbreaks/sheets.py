@@ -3,10 +3,13 @@
 from barbreaks.errors import BadNumber, BadSize, Unknown
 
 
-def check_entry(house, entry):
-    """Refuses what is neither None nor a kind of the house."""
-    if entry is not None and entry not in house.kinds:
-        raise Unknown(entry)
+def check_entries(order, name, entries):
+    """Refuses entries that are not one for each place, each None or a kind of the house."""
+    if len(entries) != order[name].places:
+        raise BadSize(len(entries))
+    for entry in entries:
+        if entry is not None and entry not in order.house.kinds:
+            raise Unknown(entry)
 
 
 def check_spots(order, spots):
@@ -17,10 +20,7 @@ def check_spots(order, spots):
             raise Unknown(name)
     for name in names:
         if name in spots:
-            if len(spots[name]) != order[name].places:
-                raise BadSize(len(spots[name]))
-            for entry in spots[name]:
-                check_entry(order.house, entry)
+            check_entries(order, name, spots[name])
 
 
 class Sheet:
@@ -55,7 +55,6 @@ class Sheet:
     def put(self, name, place, kind):
         """The sheet with this entry at the place."""
         entries = list(self._entries_with(name, place))
-        check_entry(self.order.house, kind)
         entries[place] = kind
         return Sheet(self.order, {**self._entries, name: entries})
 

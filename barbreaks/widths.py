@@ -29,7 +29,7 @@ def widest(order, counts):
     aparts = sorted(set([ticks for line in distances for ticks in line[1:]]))
     if fits(near_band(distances, max(aparts, default=0) + 1), numbers):
         return Width(None, lay_spots(order, counts), None)
-    for apart in reversed(aparts):
+    for apart in aparts[::-1]:
         if fits(near_band(distances, apart), numbers):
             sheet = lay_spots(order_apart(order, apart), counts)
             return Width(apart, sheet, jam_of(order_apart(order, apart + 1), counts))

@@ -89,6 +89,14 @@ class TestNear(Case):
                     for k in range(count):
                         self.assertIs(band.near(i, k), are_near(ends, i, k))
 
+    def test_what_stands_between_near_things_is_near_to_both(self):
+        for ends in [*all_ends(6), some_ends("between", 60, 7)]:
+            near = shape(Band(ends))
+            for i, line in enumerate(near):
+                for k in range(i, len(line)):
+                    for between in range(i, k + 1):
+                        self.assertTrue(not line[k] or near[i][between] and near[between][k])
+
     def test_whatever_the_order(self):
         band = Band([1, 3, 3, 3])
         self.assertIs(band.near(0, 1), True)
@@ -189,6 +197,17 @@ class TestPart(Case):
             self.refuses(BadNumber(bad), band.part, low, high)
         self.refuses(BadNumber(1), Band([]).part, 0, 1)
         self.refuses(BadNumber(1), Band([]).part, 1, 0)
+
+
+class TestErrors(Case):
+    def test_refusals_change_nothing(self):
+        band = Band([1, 1, 2])
+        positions = [3, 2, 9]
+        self.refuses(BadNumber(3), band.near, 3, 0)
+        self.refuses(BadNumber(4), band.part, 0, 4)
+        self.refuses(BadNumber(2), Band.spaced, positions, 4)
+        self.assertEqual(band.ends, (1, 1, 2))
+        self.assertEqual(positions, [3, 2, 9])
 
 
 class TestMirroredAndSum(Case):

@@ -8,7 +8,7 @@ from barbreaks.chains import most
 from barbreaks.covers import cover, cover_bound
 from barbreaks.errors import BadNumber
 from tests.helpers import Case
-from tests.plain_bands import all_ends, is_cover, some_ends
+from tests.plain_bands import all_ends, all_layings, is_cover, some_ends
 
 BIG = 10 ** 40 - 1
 
@@ -61,6 +61,23 @@ class TestCover(Case):
                 self.refuses(BadNumber(many), cover, band, many)
                 self.refuses(BadNumber(many), cover_bound, band, many, [])
                 self.refuses(BadNumber(many), cover_bound, band, many, [(0, 1)])
+
+
+def all_covers(ends, start=0):
+    """All covers of the things from the start on."""
+    if start == len(ends):
+        return [[]]
+    return [[(start, last), *rest] for last in range(start, ends[start] + 1)
+            for rest in all_covers(ends, last + 1)]
+
+
+class TestFact(Case):
+    def test_no_chains_have_more_than_the_bound(self):
+        for ends in [ends for count in range(6) for ends in all_ends(count)]:
+            for many in range(4):
+                right = max(len(ends) - laying.count(None) for laying in all_layings(ends, many))
+                bounds = [cover_bound(Band(ends), many, groups) for groups in all_covers(ends)]
+                self.assertEqual(min(bounds), right)
 
 
 class TestCoverBound(Case):

@@ -183,6 +183,16 @@ class TestCheckJam(JamCase):
         self.check(False, right_groups(), kinds=["soap"], asked=1, at_most=2, counts=counts)
         self.check(True, right_groups(), kinds=["cars", "tea"], asked=5, at_most=4, counts={"cars": 5})
 
+    def test_kinds_in_any_order(self):
+        order = break_order(2, kinds=["tea", "cars", "ale"])
+        singles = [Group(("x0", 0), ("x0", 0), None), Group(("x0", 1), ("x0", 1), None)]
+        counts = {"cars": 2, "tea": 2, "ale": 1}
+        for kinds in itertools.permutations(["tea", "cars", "ale"]):
+            self.assertIs(check_jam(order, counts, Jam(kinds, 5, 2, singles)), True)
+            self.assertIs(check_jam(order, counts, Jam(kinds, 5, 3, singles)), False)
+        for kinds in itertools.permutations(["tea", "cars"]):
+            self.assertIs(check_jam(order, counts, Jam(kinds, 4, 2, singles)), True)
+
     def test_most_is_less_than_asked(self):
         self.check(False, right_groups(), asked=2, counts={"cars": 2})
         self.check(False, middle_groups(), asked=3, at_most=3)
@@ -201,6 +211,11 @@ class TestCheckJam(JamCase):
         self.check(False, right_groups(), kinds=["cars", "cars"], asked=6, at_most=4)
         self.check(False, right_groups(), kinds=["cars", "cars"], asked=3, at_most=4, counts={"cars": 5})
         self.check(False, right_groups(), kinds=["cars", "cars"], asked=5, at_most=4, counts={"cars": 5})
+        self.check(False, right_groups(), kinds=["cars", "cars"])
+        self.check(False, right_groups(), kinds=["cars", "ale"])
+        self.check(False, right_groups(), kinds=["cars", ""])
+        self.check(False, right_groups(), kinds=["cars", "soap", "cars"], asked=9, at_most=4,
+                   counts={"cars": 8, "soap": 1})
         self.check(False, right_groups(), kinds=["ale"], asked=3)
         self.check(False, right_groups(), kinds=["cars", "ale"], asked=3, at_most=4)
         self.check(False, right_groups(), kinds=["cars", "ale"], asked=5, at_most=4, counts={"cars": 5})
@@ -233,6 +248,11 @@ class TestCheckJam(JamCase):
         self.check(False, [singles[1], singles[0], *singles[2:]], asked=9, at_most=4, counts=counts)
         self.check(False, [singles[0], singles[2], singles[1], singles[3]], asked=9, at_most=4,
                    counts=counts)
+        for group in [Group(N1, N0, row_of(4)), Group(N1, N0, None)]:
+            self.check(False, [singles[0], group, *singles[1:]], asked=9, at_most=4, counts=counts)
+        group = Group(E0, N0, row_of(4))
+        for at_most in [3, 4, 5]:
+            self.check(False, [*singles[:2], group, *singles[1:]], asked=9, at_most=at_most, counts=counts)
         backwards = [singles[0], Group(E0, N1, row_of(4)), singles[3]]
         for at_most in [1, 2, 3]:
             self.check(False, backwards, asked=9, at_most=at_most, counts=counts)

@@ -143,6 +143,15 @@ class TestEdges(LayingCase):
         self.assertEqual(counts, [1, 2])
         self.assertEqual(band.ends, (1, 1, 3, 3))
 
+    def test_refusals_change_nothing(self):
+        band = Band([1, 1, 3, 3])
+        for counts, error in [([3, 1], NoRoom(1, 1)), ([2, -1], BadNumber(-1)),
+                              ([2] * 13, TooMany("counts", 12))]:
+            kept = list(counts)
+            self.refuses(error, lay, band, counts)
+            self.assertEqual(counts, kept)
+            self.assertEqual(band.ends, (1, 1, 3, 3))
+
     def test_twelve_counts(self):
         self.compare(list(range(12)), [1] * 12, True)
         self.compare(list(range(11)), [1] * 12, False)

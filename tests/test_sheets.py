@@ -152,6 +152,18 @@ class TestPut(Case):
         sheet = Sheet(an_order(), {}).put("eve", 2, "soap").put("noon", 0, "soap")
         self.assertEqual(list(sheet), [("noon", 0, "soap"), ("eve", 2, "soap")])
 
+    def test_refusals_change_nothing(self):
+        sheet = a_sheet()
+        before = entries_of(sheet)
+        self.refuses(Unknown("ale"), sheet.put, "eve", 0, "ale")
+        self.refuses(BadNumber(3), sheet.put, "eve", 3, "cars")
+        self.refuses(Unknown("talk"), sheet.put, "talk", 0, "cars")
+        self.assertEqual(entries_of(sheet), before)
+        self.assertEqual(list(sheet), [("noon", 1, "cars"), ("eve", 0, "soap"), ("eve", 2, "cars")])
+        spots = {"noon": ["cars", "ale"]}
+        self.refuses(Unknown("ale"), Sheet, an_order(), spots)
+        self.assertEqual(spots, {"noon": ["cars", "ale"]})
+
     def test_strange_kinds(self):
         for kind in ["ale", "", "noon", "Cars"]:
             self.refuses(Unknown(kind), a_sheet().put, "eve", 0, kind)
