@@ -2,6 +2,7 @@
 
 import unittest
 
+from barbreaks.crowds import fewest_studios
 from barbreaks.distances import nearest
 from barbreaks.errors import BadRow
 from barbreaks.grids import Grid
@@ -14,6 +15,7 @@ from barbreaks.places import spot_band
 from barbreaks.reach import Reach
 from barbreaks.runs import run
 from barbreaks.spots import lay_spots
+from barbreaks.troubles import trouble
 from barbreaks.widths import widest
 from tests.helpers import Case, doc_order
 
@@ -25,12 +27,15 @@ class TestExamples(Case):
     def test_limit(self):
         self.assertEqual(doc_order()["eve"].limit, 30)
 
-    def test_the_other_orders_can_be_made(self):
+    def test_crowds_and_troubles(self):
         small = House(1, 2, walk=(0, 3), pack=(2, 4))
         slot = Break("slot", grid=Grid(10), minute=10, places=1, unit=10)
         chat = Piece("chat", grid=Grid(1), least=5, most=8)
         song = Piece("song", grid=Grid(1), least=6, most=6)
-        self.assertEqual(Order(small, 0, [slot, chat, song]).piece_names(), ["chat", "song"])
+        full = Order(small, 0, [slot, chat, song])
+        crowd = fewest_studios(full)
+        self.assertEqual((crowd.count, crowd.names), (2, ["chat", "song"]))
+        self.assertEqual(trouble(full, {}).word, "studios")
 
     def test_words_of_the_order(self):
         self.assertEqual([" ".join(item.words()) for item in doc_order()],

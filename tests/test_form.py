@@ -68,6 +68,19 @@ INTERFACE = {
     "mosts": {"Most": [], "most_spots": None},
     "widths": {"Width": [], "widest": None},
     "stays": {"studio_band": None, "crew_band": None},
+    "crowds": {"Crowd": [], "fewest_studios": None, "fewest_crews": None},
+    "giving": {"give_studios": None, "give_crews": None},
+    "lives": {"Live": [], "most_live": None},
+    "plans": {
+        "Plan": ["__init__", "with_studio", "with_crew", "with_spot", "with_order", "demands"],
+    },
+    "faults": {"faults": None},
+    "judging": {
+        "Verdict": ["line"], "Safe": ["line", "__bool__"], "Broken": ["line", "__bool__"],
+        "margins": None, "judge": None, "weakest": None,
+    },
+    "plainly": {"plain_weakest": None},
+    "troubles": {"Trouble": ["__init__"], "trouble": None, "check_trouble": None},
 }
 
 PROPERTIES = [("spans", "Span", "size"), ("items", "Break", "length"), ("items", "Break", "limit"),
