@@ -1,19 +1,25 @@
-"""The examples of the document, as far as the program goes."""
+"""The examples of the document."""
 
 import unittest
 
 from barbreaks.crowds import fewest_studios
+from barbreaks.desks import Desk
 from barbreaks.distances import nearest
-from barbreaks.errors import BadRow
+from barbreaks.errors import BadLine, BadRow, Begun, OffAir
 from barbreaks.grids import Grid
 from barbreaks.houses import House
 from barbreaks.items import Break, Piece
 from barbreaks.jams import jam_of
+from barbreaks.judging import judge
+from barbreaks.making import make_plan
 from barbreaks.orders import Order
+from barbreaks.ordertexts import read_order, write_order
 from barbreaks.outlooks import Outlook
+from barbreaks.patterns import Pattern
 from barbreaks.places import spot_band
 from barbreaks.reach import Reach
 from barbreaks.runs import run
+from barbreaks.searches import find_order
 from barbreaks.spots import lay_spots
 from barbreaks.troubles import trouble
 from barbreaks.widths import widest
@@ -37,10 +43,6 @@ class TestExamples(Case):
         self.assertEqual((crowd.count, crowd.names), (2, ["chat", "song"]))
         self.assertEqual(trouble(full, {}).word, "studios")
 
-    def test_words_of_the_order(self):
-        self.assertEqual([" ".join(item.words()) for item in doc_order()],
-                         ["noon 10 5 0 2 5 1", "talk 1 - 0 4 6", "eve 10 20 0 2 5 2"])
-
     def test_runs(self):
         order = doc_order()
         self.assertEqual(run(order, [(0,), (0, 4, 1, 0), (0,)]).moments,
@@ -60,6 +62,31 @@ class TestExamples(Case):
         jam = jam_of(order, {"cars": 3})
         self.assertEqual((jam.kinds, jam.asked, jam.most), (["cars"], 3, 2))
         self.assertEqual((widest(order, {"cars": 2}).apart, widest(order, {"cars": 3}).apart), (25, 5))
+
+    def test_plans_and_desks(self):
+        plan = make_plan(doc_order(), {"cars": 2})
+        self.assertEqual(judge(plan).line(), "4 demands, safe by 0")
+        desk = Desk(plan)
+        self.assertEqual([desk.press(0), desk.finish(), desk.press(0), desk.finish(6)], [10, 20, 20, 26])
+        self.refuses(OffAir(), desk.finish)
+        self.assertEqual((desk.walked("talk", 2), desk.left()), (12, ["eve"]))
+        self.refuses(Begun("noon"), desk.retime, "noon", 7)
+
+    def test_texts(self):
+        self.assertEqual(write_order(doc_order()), (
+            "house 2 2 1 14\nwalk 1 2\npack 0 1\nkind cars\nopens 0\nbreak noon 10 5 0 2 5 1\n"
+            "piece talk 1 - 0 4 6\nbreak eve 10 20 0 2 5 2"))
+        self.refuses(BadLine(2), read_order, "house 2 2 1 14\nwalk 2 1\npack 0 1\nopens 0")
+
+    def test_searches(self):
+        first = Break("first", grid=Grid(1), minute=5, places=1, unit=5)
+        second = Break("second", grid=Grid(10), minute=20, places=1, unit=5)
+        long = Piece("long", grid=Grid(1), least=12, most=14)
+        short = Piece("short", grid=Grid(1), least=5, most=5)
+        pattern = Pattern(House(1, 1), 0, [first, None, second, None], [long, short])
+        found = find_order(pattern, {})
+        self.assertEqual((found.names, found.tree[1][0][0], found.tree[1][0][1][0], found.tree[1][1][1]),
+                         (["short", "long"], "long", "trouble", ("next", [("long", ("good",))])))
 
 
 if __name__ == "__main__":

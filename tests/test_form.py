@@ -81,10 +81,25 @@ INTERFACE = {
     },
     "plainly": {"plain_weakest": None},
     "troubles": {"Trouble": ["__init__"], "trouble": None, "check_trouble": None},
+    "making": {"make_plan": None},
+    "patterns": {"Pattern": ["__init__", "order_of", "beginning", "orders"]},
+    "searches": {
+        "Search": ["__init__"], "find_order": None, "check_search": None, "good_orders": None,
+    },
+    "minutes": {"Minute": [], "least_minute": None},
+    "desks": {
+        "Desk": ["__init__", "press", "finish", "walked", "packed", "expect", "put", "room", "staff",
+                 "retime", "swap", "space", "undo", "attempt", "known", "margin", "left", "spacing",
+                 "__getitem__", "__setitem__", "__iter__"],
+    },
+    "ordertexts": {"write_order": None, "read_order": None},
+    "plantexts": {"write_plan": None, "read_plan": None},
+    "scripts": {"perform": None},
+    "charts": {"chart": None},
 }
 
 PROPERTIES = [("spans", "Span", "size"), ("items", "Break", "length"), ("items", "Break", "limit"),
-              ("orders", "Order", "points")]
+              ("orders", "Order", "points"), ("desks", "Desk", "spacing")]
 
 
 def sources():
@@ -120,6 +135,13 @@ class TestInterface(unittest.TestCase):
     def test_read_is_a_class_method(self):
         grid = importlib.import_module("barbreaks.grids").Grid
         self.assertIsInstance(vars(grid)["read"], classmethod)
+
+    def test_spacing_can_be_assigned(self):
+        desk = importlib.import_module("barbreaks.desks").Desk
+        self.assertIsNotNone(vars(desk)["spacing"].fset)
+
+    def test_every_module_is_listed(self):
+        self.assertEqual(sorted(INTERFACE), sorted(set(sources()) - {"__init__"}))
 
     def test_modules_use_only_earlier_ones(self):
         modules = list(INTERFACE)
